@@ -1,0 +1,1 @@
+"""Gridshares: shares of a grid, told, counted and numbered."""

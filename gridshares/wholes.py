@@ -1,0 +1,12 @@
+"""The helper of the package: what several files need of whole numbers."""
+
+
+def is_whole(thing):
+    """Whether the thing is a whole number."""
+    # Python counts True and False among the ints, but a truth is no number here.
+    return isinstance(thing, int) and not isinstance(thing, bool)
+
+
+def is_whole_from(least, most, thing):
+    """Whether the thing is a whole number from least to most."""
+    return is_whole(thing) and least <= thing <= most

@@ -1,0 +1,93 @@
+"""What the tests share: a test case that watches promise [2], things of every kind, shares gone through one by one."""
+
+import copy
+import itertools
+import unittest
+
+from gridshares import errors
+
+REFUSALS = [
+    errors.NoShare, errors.NoBox, errors.NoFit, errors.NoNumber, errors.NoRow, errors.NoCell,
+    errors.NoChain, errors.NoSquare, errors.NoFilling, errors.NoWalk, errors.NoStack, errors.NoPile,
+    errors.NoWay, errors.NoBack, errors.NoText, errors.NoWord,
+]
+
+
+def deep(thing, wrap, times=12):
+    for step in range(times):
+        thing = wrap(thing)
+    return thing
+
+
+# No whole number, no share, no box, no cell: so refused, or False, wherever one of these is asked for.
+WHATEVER = [
+    None, True, False, "", "0", "1", "11", "(1, 1)", "1x1", "put", "~" * 4000, "a\nb",
+    (None,), (True,), (False,), (False, False), (True, True), (True, False), (1, True), (False, 0), (0, True),
+    ("1",), ("1", "1"), ("", ""), (None, None), ([], []), ({}, {}), ((), ()), ((1, 1),), ((1,), (1,)), ([1, 1],),
+    (1, None), (1, "1"), (1, (1,)), (1, [1]), (1, {}), (None, 1), ("1", 1), ([1], 1), (0, 1, 2),
+    [], [0], [1], [1, 1], [2, 1], [0, 0], [True, True], [None], ["1", "1"], [(1, 1)], [[1, 1]], [[]], [{}],
+    {}, {0: 1}, {1: 1}, {"high": 1, "wide": 1}, {(1, 1): [1]}, {None: None},
+    deep(1, lambda thing: [thing]), deep(1, lambda thing: (thing,)), deep(1, lambda thing: {1: thing}),
+    deep((), lambda thing: (thing, thing), 6), [1] * 1000, (1,) * 1000, (0,) * 1000, "11" * 2000,
+]
+
+FAR_NUMBERS = [10 ** 29, -10 ** 29, 10 ** 30 - 1, 1 - 10 ** 30]
+
+NO_BOXES = WHATEVER + FAR_NUMBERS + [
+    0, 1, 2, -1, (), (0,), (1,), (1, 1, 1), (0, 0, 0), (-1, 0), (0, -1), (-1, -1), (21, 0), (0, 21), (21, 21), (20, 21),
+    (21, 20), (10 ** 29, 1), (1, 10 ** 29), (-10 ** 29, 1), (1, -10 ** 29),
+]
+
+BOXES = [(high, wide) for high in range(7) for wide in range(7)]
+GREAT_BOXES = [
+    (0, 20), (20, 0), (1, 20), (20, 1), (2, 20), (20, 2), (7, 20), (20, 7), (13, 17), (19, 20), (20, 19), (20, 20),
+]
+
+
+def all_shares(high, wide):
+    """All shares of a box, gone through: every falling list of lengths, noughts cut off."""
+    lengths = itertools.combinations_with_replacement(range(wide, -1, -1), high)
+    return sorted({tuple(length for length in row if length) for row in lengths})
+
+
+def cell_set(share):
+    return {(row, column) for row in range(len(share)) for column in range(share[row])}
+
+
+def spoil(told):
+    """Change all lists and dicts of what was told."""
+    if isinstance(told, (list, tuple)):
+        for thing in told:
+            spoil(thing)
+    if isinstance(told, list):
+        told.reverse()
+        told.append("spoiled")
+    if isinstance(told, dict):
+        told.clear()
+
+
+class GridCase(unittest.TestCase):
+    def told(self, function, *handed):
+        """What the function tells: told again alike, though the first answer was spoiled; what was handed in, as it was."""
+        before = repr(handed)
+        first = function(*handed)
+        kept = copy.deepcopy(first)
+        spoil(first)
+        again = function(*handed)
+        self.assertEqual(repr(kept), repr(again), (function, before))
+        self.assertEqual(before, repr(handed), function)
+        return kept
+
+    def tells(self, expected, function, *handed):
+        # By what it shows: 1 and True are alike to Python, but a truth is no number.
+        self.assertEqual(repr(expected), repr(self.told(function, *handed)), (function, handed))
+
+    def refuses(self, refusal, function, *handed):
+        """The refusal is of its own class and no other; what was handed in stays as it was."""
+        before = repr(handed)
+        with self.assertRaises(errors.GridError, msg=(function, handed)) as caught:
+            function(*handed)
+        error = caught.exception
+        self.assertIsInstance(error, ValueError)
+        self.assertEqual([refusal], [one for one in REFUSALS if isinstance(error, one)], (function, handed))
+        self.assertEqual(before, repr(handed), function)

@@ -1,0 +1,21 @@
+"""The interface: each name is there, with its arguments by their places."""
+
+import importlib
+import inspect
+import unittest
+
+INTERFACE = {
+    "shares": ["is_share(thing)", "share_of(things)", "cells_in(share)", "cells_of(share)", "turned_share(share)"],
+    "boxes": ["is_box(thing)", "fits_in(box, share)", "full_share(box)", "other_share(box, share)"],
+    "counts": ["how_many(box, n)", "cell_table(box)", "all_in(box)"],
+    "places": ["share_at(box, n, number)", "place_of(box, share)"],
+}
+
+
+class Interface(unittest.TestCase):
+    def test_functions(self):
+        for module, functions in INTERFACE.items():
+            there = importlib.import_module("gridshares." + module)
+            for written in functions:
+                name = written.partition("(")[0]
+                self.assertEqual(written, name + str(inspect.signature(getattr(there, name))))
