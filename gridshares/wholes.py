@@ -10,3 +10,16 @@ def is_whole(thing):
 def is_whole_from(least, most, thing):
     """Whether the thing is a whole number from least to most."""
     return is_whole(thing) and least <= thing <= most
+
+
+def product_of(numbers):
+    """The product of a list of numbers, 1 of none."""
+    product = 1
+    for number in numbers:
+        product *= number
+    return product
+
+
+def factorial_of(n):
+    """1 times 2 and so on to n."""
+    return product_of(list(range(1, n + 1)))

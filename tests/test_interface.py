@@ -9,6 +9,13 @@ INTERFACE = {
     "boxes": ["is_box(thing)", "fits_in(box, share)", "full_share(box)", "other_share(box, share)"],
     "counts": ["how_many(box, n)", "cell_table(box)", "all_in(box)"],
     "places": ["share_at(box, n, number)", "place_of(box, share)"],
+    "listed": ["shares_of(box, n)", "shares_in(box)"],
+    "orders": ["lies_within(one, other)", "joined_shares(one, other)", "met_shares(one, other)"],
+    "corners": [
+        "in_rows(share)", "out_rows(share)", "in_rows_of(box, share)", "put_in(share, row)", "taken_out(share, row)",
+    ],
+    "hooks": ["hook_of(share, cell)", "hooks_of(share)"],
+    "products": ["chains_to(share)", "walks_to(share, k)"],
 }
 
 
