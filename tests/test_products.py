@@ -106,6 +106,8 @@ class Walks(GridCase):
                 self.tells(0, walks_to, share, k)
         for k in range(61):
             self.tells(0, walks_to, (20,) * 20, k)
+        for k in [-1, -2, -4]:
+            self.tells(0, walks_to, (), k)
 
     def test_odd(self):
         for share in SMALL:
