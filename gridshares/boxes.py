@@ -1,7 +1,7 @@
 """Boxes: what is one, which shares fit one, its full share, and the other one of a share."""
 
 from gridshares.errors import NoBox, NoFit
-from gridshares.shares import share_of
+from gridshares.shares import padded_rows, share_of
 from gridshares.wholes import is_whole_from
 
 LONGEST_SIDE = 20
@@ -45,5 +45,4 @@ def other_share(box, share):
     """The share of the cells that the box has and the share hasn't, seen from the far corner."""
     need_fit(box, share)
     high, wide = box
-    lengths = list(share) + [0] * (high - len(share))
-    return share_of([wide - length for length in reversed(lengths)])
+    return share_of([wide - length for length in reversed(padded_rows(share, high))])

@@ -48,8 +48,13 @@ def taken_out(share, row):
     return share[:row] + (share[row] - 1,) + share[row + 1:]
 
 
+def is_row_of(rows, thing):
+    """Whether the thing is one of the rows, whatever it is."""
+    # True and False would be found among the rows 0 and 1.
+    return is_whole(thing) and thing in rows
+
+
 def need_row(rows, thing):
     """Refuse whatever is none of the rows."""
-    # True and False would be found among the rows 0 and 1.
-    if not is_whole(thing) or thing not in rows:
+    if not is_row_of(rows, thing):
         raise NoRow("there is no such row here")

@@ -1,6 +1,8 @@
-"""All shares of a box, and those of so many cells, as lists in the order of tuples."""
+"""All shares of a box, those of so many cells, and those between two, as lists in the order of tuples."""
 
 from gridshares.boxes import need_box
+from gridshares.orders import lies_within
+from gridshares.shares import padded_rows, share_of
 
 
 def shares_of(box, n):
@@ -40,3 +42,18 @@ def all_shares_to(high, wide):
         for rest in all_shares_to(high - 1, length)
     ]
     return [()] + longer
+
+
+def shares_between(one, other):
+    """All shares that one lies within and that lie within other, rising."""
+    if not lies_within(one, other):
+        return []
+    begun = [()]
+    for least, most in zip(padded_rows(one, len(other)), other):
+        # A row is no longer than that of other, nor than the one ahead, if there is one.
+        begun = [
+            rows + (length,)
+            for rows in begun
+            for length in range(least, min(rows[-1:] + (most,)) + 1)
+        ]
+    return [share_of(rows) for rows in begun]

@@ -1,11 +1,19 @@
 """Shares one within another, joined and met."""
 
+from gridshares.errors import NoFit
+
 
 def lies_within(one, other):
     """Whether other has all cells of one."""
     if len(one) > len(other):
         return False
     return all([length <= limit for length, limit in zip(one, other)])
+
+
+def need_within(one, other):
+    """Refuse a share that doesn't lie within the other one."""
+    if not lies_within(one, other):
+        raise NoFit("the one share doesn't lie within the other")
 
 
 def joined_shares(one, other):

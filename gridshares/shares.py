@@ -52,6 +52,11 @@ def turned_share(share):
     return tuple([rows_beyond(share, column) for column in range(share[0])])
 
 
+def padded_rows(share, high):
+    """The lengths of so many rows, 0 for those that the share hasn't."""
+    return share + (0,) * (high - len(share))
+
+
 def rows_beyond(share, column):
     """How many rows of the share have a cell in the column."""
     return len([length for length in share if length > column])

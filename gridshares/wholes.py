@@ -23,3 +23,12 @@ def product_of(numbers):
 def factorial_of(n):
     """1 times 2 and so on to n."""
     return product_of(list(range(1, n + 1)))
+
+
+def part_at(parts, number):
+    """In which part that number falls, of parts of so many numbers each, and which one it is there."""
+    part = 0
+    while number >= parts[part]:
+        number -= parts[part]
+        part += 1
+    return part, number

@@ -54,6 +54,53 @@ def cell_set(share):
     return {(row, column) for row in range(len(share)) for column in range(share[row])}
 
 
+def with_cell(share, row):
+    """The rows of the share with a cell more at the row, whatever they then are."""
+    rows = list(share) + [0] * (row + 1 - len(share))
+    rows[row] += 1
+    return tuple(rows)
+
+
+def chains_gone_through(one, other):
+    """All chains from one to other, gone through cell by cell, in the order of lists."""
+    if one == other:
+        return [[]]
+    chains = []
+    for row in range(len(one) + 1):
+        more = with_cell(one, row)
+        if list(more) == sorted(more, reverse=True) and cell_set(more) <= cell_set(other):
+            chains += [[row] + rest for rest in chains_gone_through(more, other)]
+    return chains
+
+
+def stacks_gone_through(one, other, k):
+    """All stacks of k shares from one to other, gone through share by share, in the order of lists."""
+    if not cell_set(one) <= cell_set(other):
+        return []
+    if k == 0:
+        return [[]]
+    shares = all_shares(len(other), max((0,) + other))
+    return [
+        [share] + rest
+        for share in shares if cell_set(one) <= cell_set(share)
+        for rest in stacks_gone_through(share, other, k - 1)
+    ]
+
+
+def no_such_lists(numbers):
+    """Things that are like the list of numbers, but are no list of these numbers."""
+    things = [
+        tuple(numbers), dict(enumerate(numbers)), {"rows": numbers}, "".join(str(number) for number in numbers),
+        str(numbers), [numbers], (numbers,), [tuple(numbers)], [None] + numbers, numbers + [None], numbers + ["0"],
+    ]
+    for at, number in enumerate(numbers):
+        for thing in [None, str(number), (number,), [number], {}, {number: number}, -1, -20, -number - 1, 21, *FAR_NUMBERS]:
+            things.append(numbers[:at] + [thing] + numbers[at + 1:])
+        if number in (0, 1):
+            things.append(numbers[:at] + [bool(number)] + numbers[at + 1:])
+    return things
+
+
 def spoil(told):
     """Change all lists and dicts of what was told."""
     if isinstance(told, (list, tuple)):

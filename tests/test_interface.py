@@ -16,6 +16,18 @@ INTERFACE = {
     ],
     "hooks": ["hook_of(share, cell)", "hooks_of(share)"],
     "products": ["chains_to(share)", "walks_to(share, k)"],
+    "chains": [
+        "is_chain(one, other, thing)", "turned_chain(one, other, rows)", "chain_back(box, one, other, rows)",
+        "chains_between(one, other)",
+    ],
+    "chainplaces": ["all_chains(one, other)", "chain_at(one, other, number)", "place_of_chain(one, other, rows)"],
+    "squares": ["square_worth(square)", "choices_of(a, b)"],
+    "bysquares": ["chains_by_square(one, other)", "stacks_by_square(one, other, k)"],
+    "fillings": [
+        "is_filling(one, other, thing)", "filling_of(one, other, rows)", "chain_of(one, other, filling)",
+        "turned_filling(one, other, filling)",
+    ],
+    "fillplaces": ["filling_at(one, other, number)", "place_of_filling(one, other, filling)"],
 }
 
 

@@ -2,9 +2,9 @@
 
 from gridshares.counts import all_in, cell_table, how_many
 from gridshares.errors import NoBox
-from gridshares.listed import shares_in, shares_of
+from gridshares.listed import shares_between, shares_in, shares_of
 from gridshares.places import place_of, share_at
-from tests.common import BOXES, FAR_NUMBERS, NO_BOXES, GridCase, all_shares
+from tests.common import BOXES, FAR_NUMBERS, NO_BOXES, GridCase, all_shares, cell_set
 
 
 class Lists(GridCase):
@@ -85,3 +85,16 @@ class NoBoxes(GridCase):
             self.refuses(NoBox, function, thing)
         for share in [(), (1,), (20,) * 20]:
             self.refuses(NoBox, place_of, thing, share)
+
+
+class Between(GridCase):
+    def test_small_shares(self):
+        shares = all_shares(3, 4)
+        for one in shares:
+            for other in shares:
+                between = [share for share in shares if cell_set(one) <= cell_set(share) <= cell_set(other)]
+                self.tells(between, shares_between, one, other)
+
+    def test_great_shares_near_to_one_another(self):
+        self.tells([(20,) * 19 + (19,), (20,) * 20], shares_between, (20,) * 19 + (19,), (20,) * 20)
+        self.tells([], shares_between, (20,) * 20, (20,) * 19)
