@@ -73,6 +73,30 @@ def chains_gone_through(one, other):
     return chains
 
 
+def walks_gone_through(box, one, k):
+    """A dict, by the share they lead to, of all walks of k steps in the box from one, each gone through, rising."""
+    high, wide = box
+    shares = all_shares(high, wide)
+    walks = [(one, [])]
+    for step in range(k):
+        walks = [(left, steps + [way]) for share, steps in walks for way, left in ways_from(share, shares)]
+    ends = {share: [] for share in shares}
+    for share, steps in sorted(walks):
+        ends[share].append(steps)
+    return ends
+
+
+def ways_from(share, shares):
+    """The steps from the share to those of the shares that have a cell more or less."""
+    ways = []
+    for left in shares:
+        more, less = cell_set(left) - cell_set(share), cell_set(share) - cell_set(left)
+        if len(more) + len(less) == 1:
+            word = "put" if more else "take"
+            ways.append(((word, min(more | less)[0]), left))
+    return ways
+
+
 def stacks_gone_through(one, other, k):
     """All stacks of k shares from one to other, gone through share by share, in the order of lists."""
     if not cell_set(one) <= cell_set(other):

@@ -27,6 +27,19 @@ INTERFACE = {
         "is_filling(one, other, thing)", "filling_of(one, other, rows)", "chain_of(one, other, filling)",
         "turned_filling(one, other, filling)",
     ],
+    "walks": [
+        "is_walk(box, one, other, thing)", "walk_shares(box, one, other, steps)", "walks_between(box, one, other, k)",
+        "walk_back(box, one, other, steps)", "walk_of_others(box, one, other, steps)",
+    ],
+    "walkplaces": ["walk_at(box, one, other, k, number)", "place_of_walk(box, one, other, steps)"],
+    "stacks": [
+        "is_stack(one, other, k, thing)", "stacks_between(one, other, k)", "joined_stacks(some, others)",
+        "met_stacks(some, others)",
+    ],
+    "stackplaces": ["stack_at(one, other, k, number)", "place_of_stack(one, other, stack)"],
+    "piles": [
+        "is_pile(thing)", "pile_fits(box, pile)", "pile_of(cells)", "pile_cells(pile)", "other_pile(box, pile)",
+    ],
     "fillplaces": ["filling_at(one, other, number)", "place_of_filling(one, other, filling)"],
 }
 
