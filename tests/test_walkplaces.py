@@ -56,7 +56,7 @@ class Refusals(GridCase):
     def test_no_number_where_there_is_no_walk(self):
         for box, one, other, k in [
             ((2, 2), (), (), 1), ((2, 2), (), (1,), 0), ((2, 2), (), (1,), 16), ((5, 5), (), (5,) * 5, 16),
-            ((0, 0), (), (), 2), ((2, 2), (), (), -2),
+            ((0, 0), (), (), 2), ((2, 2), (), (), -1), ((2, 2), (), (), -2),
         ]:
             for number in [0, 1, -1, None, True, False, "0"]:
                 self.refuses(NoNumber, walk_at, box, one, other, k, number)

@@ -229,7 +229,8 @@ class HowMany(GridCase):
         for k in range(25):
             self.tells(0, walks_between, (5, 5), (), (5,) * 5, k)
         self.tells(0, walks_between, (5, 5), (5,), (1,) * 5, 6)
-        self.tells(0, walks_between, (3, 3), (), (), -2)
+        for k in [-1, -2]:
+            self.tells(0, walks_between, (3, 3), (), (), k)
 
     def test_from_behind_turned_about_and_by_the_others(self):
         for one, other in [((), (2, 1)), ((4, 4), (3, 3, 1)), ((2, 2, 2), (4, 1))]:
