@@ -64,9 +64,15 @@ def chains_hither(one, other):
     """The table of how many chains lead from one to each share between; empty if one doesn't lie within other."""
     table = {}
     for share in shares_between(one, other):
-        hither = [table[left] for row, left in takes_around(one, share)]
-        table[share] = 1 if share == one else sum(hither)
+        table[share] = sum_hither(one, share, table)
     return table
+
+
+def sum_hither(one, share, table):
+    """How many chains lead from one to the share, by the table of those to the shares of a cell less."""
+    if share == one:
+        return 1
+    return sum([table[left] for row, left in takes_around(one, share)])
 
 
 def puts_within(other, share):

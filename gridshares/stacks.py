@@ -30,11 +30,20 @@ def stacks_between(one, other, k):
 
 def stack_tables(one, other, k):
     """For each number of shares to k a table of how many stacks of so many lead to other from each share between."""
-    over = {share: shares_between(share, other) for share in shares_between(one, other)}
-    tables = [{share: 1 for share in over}]
+    return tables_of_sums({share: shares_between(share, other) for share in shares_between(one, other)}, k)
+
+
+def stack_tables_hither(one, other, k):
+    """For each number of shares to k a table of how many stacks of so many lead from one to each share between."""
+    return tables_of_sums({share: shares_between(one, share) for share in shares_between(one, other)}, k)
+
+
+def tables_of_sums(nexts, k):
+    """A table of 1 for each share, and k further ones of the sums, in the table ahead, over the shares next to it."""
+    tables = [{share: 1 for share in nexts}]
     for step in range(k):
         table = tables[step]
-        tables.append({share: sum([table[first] for first in over[share]]) for share in over})
+        tables.append({share: sum([table[near] for near in nexts[share]]) for share in nexts})
     return tables
 
 

@@ -40,6 +40,13 @@ INTERFACE = {
     "piles": [
         "is_pile(thing)", "pile_fits(box, pile)", "pile_of(cells)", "pile_cells(pile)", "other_pile(box, pile)",
     ],
+    "pileways": [
+        "turned_pile(pile, ways)", "joined_piles(one, other)", "met_piles(one, other)", "pile_within(one, other)",
+    ],
+    "pilecounts": ["piles_in(box)", "piles_by_cells(box)"],
+    "pileplaces": ["pile_at(box, number)", "place_of_pile(box, pile)"],
+    "countpapers": ["lets_chains(one, other, paper, number)", "chains_paper(one, other)"],
+    "walkpapers": ["lets_walks(box, one, other, k, paper, number)", "walks_paper(box, one, k)"],
     "fillplaces": ["filling_at(one, other, number)", "place_of_filling(one, other, filling)"],
 }
 
