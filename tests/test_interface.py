@@ -47,7 +47,26 @@ INTERFACE = {
     "pileplaces": ["pile_at(box, number)", "place_of_pile(box, pile)"],
     "countpapers": ["lets_chains(one, other, paper, number)", "chains_paper(one, other)"],
     "walkpapers": ["lets_walks(box, one, other, k, paper, number)", "walks_paper(box, one, k)"],
+    "stackpapers": ["lets_stacks(one, other, k, paper, number)", "stacks_paper(one, other, k)"],
+    "texts": [
+        "show_share(share)", "show_box(box)", "show_chain(rows)", "show_walk(steps)", "show_shares(shares)",
+        "show_filling(filling)",
+    ],
+    "reader": [
+        "read_share(text)", "read_box(text)", "read_chain(text)", "read_walk(text)", "read_stack(text)", "read_pile(text)",
+        "read_filling(text)",
+    ],
     "fillplaces": ["filling_at(one, other, number)", "place_of_filling(one, other, filling)"],
+}
+CLASSES = {
+    "keeper": ("Keeper(box, share)", [
+        "put(self, row)", "take(self, row)", "back(self)", "again(self)", "share(self)", "place(self)", "chains_here(self)",
+        "chains_on(self)", "trail(self)",
+    ]),
+    "pilekeeper": ("PileKeeper(box, pile)", [
+        "put(self, layer, row)", "take(self, layer, row)", "back(self)", "again(self)", "pile(self)",
+    ]),
+    "desk": ("Desk(text)", ["say(self, row)"]),
 }
 
 
@@ -58,3 +77,13 @@ class Interface(unittest.TestCase):
             for written in functions:
                 name = written.partition("(")[0]
                 self.assertEqual(written, name + str(inspect.signature(getattr(there, name))))
+
+    def test_classes(self):
+        for module, (written, methods) in CLASSES.items():
+            name = written.partition("(")[0]
+            there = getattr(importlib.import_module("gridshares." + module), name)
+            self.assertEqual(written, name + str(inspect.signature(there)))
+            for method in methods:
+                # Each stands in the class itself, not in a base class.
+                own = vars(there)[method.partition("(")[0]]
+                self.assertEqual(method, own.__name__ + str(inspect.signature(own)))

@@ -17,7 +17,9 @@ BUILTINS = set(
 METHODS = set(
     "append clear copy count endswith extend find get index insert isalnum isalpha isdigit islower isspace isupper items"
     " join keys ljust lower lstrip partition pop remove replace reverse rfind rjust rpartition rsplit rstrip setdefault"
-    " split splitlines startswith strip update upper values zfill bit_length sort add discard".split()
+    " split splitlines startswith strip update upper values zfill bit_length sort add discard title capitalize swapcase"
+    " casefold center expandtabs removeprefix removesuffix rindex isascii isdecimal isnumeric istitle isidentifier"
+    " isprintable".split()
 )
 WORDS = (
     r"\b(type|typing|typing_extensions|enum|Enum|IntEnum|StrEnum|Flag|IntFlag|Generic|Protocol|ABC|ABCMeta|namedtuple"
@@ -57,6 +59,16 @@ def imported_names(tree):
 def module_names(tree):
     assigned = [target.id for node in tree.body if isinstance(node, ast.Assign) for target in node.targets]
     return assigned + [node.name for node in tree.body if isinstance(node, (ast.FunctionDef, ast.ClassDef))]
+
+
+def methods_of(tree):
+    classes = [node for node in ast.walk(tree) if isinstance(node, ast.ClassDef)]
+    return [node.name for there in classes for node in there.body if isinstance(node, ast.FunctionDef)]
+
+
+def attributes_of(tree, context):
+    """The attributes that the file stores, or those that it loads."""
+    return {node.attr for node in ast.walk(tree) if isinstance(node, ast.Attribute) and isinstance(node.ctx, context)}
 
 
 def wanted_files(tree):
@@ -178,3 +190,24 @@ class Language(unittest.TestCase):
         for node in ast.walk(tree):
             if isinstance(node, ast.Call) and isinstance(node.func, ast.Name) and node.func.id in SHORT_LIVED:
                 self.assertTrue(iterated_at_once(node, parents[node]), ast.unparse(node))
+
+    def test_methods_and_attributes(self):
+        trees = [tree_of(path) for path in FILES]
+        methods = {name for tree in trees for name in methods_of(tree)}
+        stored = {name for tree in trees for name in attributes_of(tree, ast.Store)}
+        loaded = {name for tree in trees for name in attributes_of(tree, ast.Load)}
+        self.assertFalse(methods & stored)
+        self.assertFalse(loaded - methods - stored - METHODS)
+        kinds = [str, int, list, tuple, dict, set, bytes]
+        self.assertFalse(((methods | stored) - {"__init__"}) & {name for kind in kinds for name in dir(kind)})
+
+    def test_methods_stand_once_in_their_class(self):
+        self.each(self.check_methods_stand_once)
+
+    def check_methods_stand_once(self, text, tree):
+        for there in [node for node in ast.walk(tree) if isinstance(node, ast.ClassDef)]:
+            self.assertIn(there, tree.body)
+            names = [node.name for node in there.body if isinstance(node, ast.FunctionDef)]
+            self.assertEqual(len(names), len(set(names)))
+            for node in there.body:
+                self.assertIsInstance(node, (ast.FunctionDef, ast.Expr))

@@ -209,6 +209,11 @@ class LetBy(GridCase):
                 for wrong in [[], [[]], [(one, 1)], [[(other, many)]] * 2, [[(one, 0)]], [[(one, 2)]], [[(one, True)]]]:
                     self.tells(False, lets_walks, (2, 2), one, other, 0, wrong, many)
 
+    def test_fewer_steps_than_none(self):
+        for paper in [[], [[]], [[((), 1)]]]:
+            for number in [0, 1]:
+                self.tells(False, lets_walks, (2, 2), (), (), -1, paper, number)
+
     def test_what_does_not_fit(self):
         for box, one, other in NOT_FITTING:
             for k in [0, 1, 2]:
